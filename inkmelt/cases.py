@@ -59,9 +59,12 @@ def refuse_too_many(passes):
 
 def refuse_bad_rules(rules):
     for rule in rules:
-        for part, least, most in zip(rule, LEAST_SHAPES, MOST_SHAPES):
-            if not least <= len(part) <= most:
-                raise BadRule("a part of a rule has a wrong number of shapes")
+        if not has_right_numbers(rule):
+            raise BadRule("a part of a rule has a wrong number of shapes")
+
+
+def has_right_numbers(rule):
+    return all([least <= len(part) <= most for part, least, most in zip(rule, LEAST_SHAPES, MOST_SHAPES)])
 
 
 def refuse_bad_shapes(shapes):

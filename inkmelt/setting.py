@@ -25,14 +25,19 @@ def doings(rules, shapes):
 
 
 def passed(rules, shapes):
-    return [slot[SHAPE] for slot in passed_slots(rules, first_slots(shapes))]
+    return shapes_of(passed_slots(rules, first_slots(shapes)))
 
 
 def set_row(case, row):
-    slots = first_slots(row)
+    return rows_along(case, row)[-1]
+
+
+# One row of slots for each pass, the one with which it begins, and behind them the set row.
+def rows_along(case, row):
+    rows = [first_slots(row)]
     for rules in case[PASSES]:
-        slots = melted(passed_slots(rules, slots))
-    return slots
+        rows.append(melted(passed_slots(rules, rows[-1])))
+    return rows
 
 
 def first_that_fits(rules, shapes, at):
@@ -63,7 +68,7 @@ def first_slots(row):
 def passed_slots(rules, slots):
     new = []
     reached = 0
-    for at, number in doings(rules, [slot[SHAPE] for slot in slots]):
+    for at, number in doings(rules, shapes_of(slots)):
         new.extend(slots[reached:at])
         reached = at + len(rules[number][TAKE])
         new.extend(all_of(rules[number][GIVE], slots[at:reached]))
@@ -71,20 +76,29 @@ def passed_slots(rules, slots):
     return new
 
 
-# Shapes that overlap in a chain always stand side by side, and the last one of them
-# reaches farthest, since neither froms nor tos ever fall along a row.
 def melted(slots):
-    chains = []
-    for slot in slots:
-        if len(chains) > 0 and slot[FROM] < chains[-1][-1][TO]:
-            chains[-1].append(slot)
-        else:
-            chains.append([slot])
     new = []
-    for chain in chains:
-        new.extend(all_of([one[SHAPE] for one in chain], chain))
+    for chain in chains(slots):
+        new.extend(all_of(shapes_of(chain), chain))
     return new
+
+
+# Shapes that overlap in a chain always stand side by side, and the last one of them
+# reaches farthest, since neither froms nor tos ever fall along a row. The chains of a
+# set row are its bundles.
+def chains(slots):
+    found = []
+    for slot in slots:
+        if len(found) > 0 and slot[FROM] < found[-1][-1][TO]:
+            found[-1].append(slot)
+        else:
+            found.append([slot])
+    return found
 
 
 def all_of(shapes, slots):
     return [(shape, slots[0][FROM], slots[-1][TO]) for shape in shapes]
+
+
+def shapes_of(slots):
+    return [slot[SHAPE] for slot in slots]

@@ -3,59 +3,7 @@ import itertools
 import unittest
 
 from inkmelt.setting import doings, passed, set_row
-
-
-def rule(behind, take, ahead, give):
-    return (tuple(behind), tuple(take), tuple(ahead), tuple(give))
-
-
-def plainly_done(rules, shapes):
-    """The doings of a pass, by single shapes and without slices."""
-    def found(part, at):
-        return all(0 <= at + k < len(shapes) and shapes[at + k] == shape for k, shape in enumerate(part))
-
-    done = []
-    free_from = 0
-    for at in range(len(shapes)):
-        if at < free_from:
-            continue
-        for number, (behind, take, ahead, _) in enumerate(rules):
-            if found(take, at) and found(behind, at - len(behind)) and found(ahead, at + len(take)):
-                done.append((at, number))
-                free_from = at + len(take)
-                break
-    return done
-
-
-def plainly_set(passes, row):
-    """The set row, by the sets of letters of which shapes come."""
-    shapes = [(letter, {place}) for place, letter in enumerate(row)]
-    for rules in passes:
-        done = dict(plainly_done(rules, [shape for shape, _ in shapes]))
-        new = []
-        at = 0
-        while at < len(shapes):
-            if at in done:
-                _, take, _, give = rules[done[at]]
-                letters = set().union(*[of for _, of in shapes[at:at + len(take)]])
-                new.extend((shape, set(letters)) for shape in give)
-                at += len(take)
-            else:
-                new.append((shapes[at][0], set(shapes[at][1])))
-                at += 1
-        changed = True
-        while changed:
-            changed = False
-            for (_, one), (_, other) in itertools.combinations(new, 2):
-                if one & other and one != other:
-                    both = one | other
-                    one |= both
-                    other |= both
-                    changed = True
-        shapes = new
-    for _, of in shapes:
-        assert of == set(range(min(of), max(of) + 1))
-    return [(shape, min(of), max(of) + 1) for shape, of in shapes]
+from plain import done_of, picked, rule, slots_of
 
 
 class PassCase(unittest.TestCase):
@@ -383,7 +331,7 @@ class BesideAPlainWay(SettingCase):
                 self.compare_pass(list(rules), row)
 
     def compare_pass(self, rules, row):
-        done = plainly_done(rules, row)
+        done = done_of(rules, row)
         self.assertEqual(doings(rules, row), done, (rules, row))
         new = []
         at = 0
@@ -404,8 +352,14 @@ class BesideAPlainWay(SettingCase):
         for passes in itertools.product(some, repeat=3):
             for row in rows[::3]:
                 told = set_row((list(passes), {}, {}), row)
-                self.assertEqual(told, plainly_set(passes, row), (passes, row))
+                self.assertEqual(told, slots_of(passes, row), (passes, row))
                 self.assert_letters(told, len(row))
+
+    def test_picked_cases(self):
+        for case, row in picked(1500):
+            told = set_row(case, row)
+            self.assertEqual(told, slots_of(case[0], row), (case, row))
+            self.assert_letters(told, len(row))
 
     def test_one_pass_beside_passed(self):
         rules = [rule([], [0, 1], [], [2, 2]), rule([2], [0], [], [1]), rule([], [1], [1, 1], [0])]
